@@ -1,0 +1,54 @@
+"""The interface: each name where it is listed, with its arguments as written."""
+
+import importlib
+import inspect
+import unittest
+
+CALLS = {
+    "waitmark.base.comers": {
+        "are_comers": "(many, thing)", "is_run": "(many, thing)", "units": "(comers, *, stream=None)",
+    },
+    "waitmark.base.roots": {"root": "(number)", "gap": "(span, count)"},
+    "waitmark.base.plain": {
+        "plain_waits": "(run, *, rate=9)", "plain_left": "(run, *, rate=9)",
+        "plain_more": "(run, *, rate=9)", "plain_longest": "(run, *, rate=9)",
+    },
+    "waitmark.rules.late": {
+        "is_late": "(thing)", "is_late_memory": "(rule, thing)", "late_first": "(rule)",
+        "late_looked": "(rule, memory, wait, *, alone=False)", "late_passed": "(rule, memory)",
+        "late_ticks": "(rule, many)",
+    },
+    "waitmark.rules.share": {
+        "is_share": "(thing)", "is_share_memory": "(rule, thing)", "share_first": "(rule)",
+        "share_renewed": "(rule, memory, wait)", "share_come": "(rule, memory)", "share_passed": "(rule, memory)",
+        "share_struck": "(rule, memory, many)",
+    },
+    "waitmark.lanes.rules": {
+        "is_rule": "(thing)", "is_memory": "(rule, thing)", "first_memory": "(rule)",
+        "looked": "(rule, memory, wait, *, alone=False)", "come_in": "(rule, memory)",
+        "renewed": "(rule, memory, wait)", "passed": "(rule, memory)",
+    },
+}
+
+VALUES = {"waitmark.base.comers": {"MOST_SIZE": 9}, "waitmark.base.plain": {"RATE": 9}}
+
+
+class TestInterface(unittest.TestCase):
+
+    def test_each_function_is_defined_in_its_file(self):
+        for place, calls in CALLS.items():
+            module = importlib.import_module(place)
+            for name, arguments in calls.items():
+                function = getattr(module, name)
+                self.assertTrue(inspect.isfunction(function), name)
+                self.assertEqual((function.__module__, function.__name__), (place, name))
+                self.assertEqual(str(inspect.signature(function)), arguments, name)
+
+    def test_the_values(self):
+        for place, values in VALUES.items():
+            for name, value in values.items():
+                self.assertEqual(repr(getattr(importlib.import_module(place), name)), repr(value))
+
+
+if __name__ == "__main__":
+    unittest.main()

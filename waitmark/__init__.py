@@ -1,0 +1,1 @@
+"""Waitmark: a line that drops or marks early by how long things wait, dealt by shares."""

@@ -1,0 +1,1 @@
+"""What all else stands on: whole numbers, comers, roots, and the plain line."""

@@ -1,0 +1,1 @@
+"""What the lanes of streams do: rules of any kind."""

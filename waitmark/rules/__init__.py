@@ -1,0 +1,1 @@
+"""The rules by which something is struck: late ones and share ones."""
