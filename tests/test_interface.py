@@ -28,6 +28,15 @@ CALLS = {
         "looked": "(rule, memory, wait, *, alone=False)", "come_in": "(rule, memory)",
         "renewed": "(rule, memory, wait)", "passed": "(rule, memory)",
     },
+    "waitmark.lanes.lanes": {
+        "is_stream": "(thing)", "is_lane": "(stream, thing)", "empty_lane": "(stream)",
+        "put_in": "(stream, lane, size, *, can=True)", "head_out": "(stream, lane)",
+        "lane_renewed": "(stream, lane)", "lane_passed": "(stream, lane)",
+    },
+    "waitmark.lanes.turns": {
+        "is_standing": "(streams, thing)", "first_standing": "(streams)", "served": "(streams, rate, standing)",
+    },
+    "waitmark.line.steps": {"stepped": "(streams, rate, standing, comers)"},
 }
 
 VALUES = {"waitmark.base.comers": {"MOST_SIZE": 9}, "waitmark.base.plain": {"RATE": 9}}

@@ -96,3 +96,211 @@ class Case(unittest.TestCase):
     def refuses_run(self, function, *args, **named):
         refused = self.refuses(errors.NoRun, function, *args, **named)
         self.same(refused.number, 0)
+
+
+LIMITS = (1, 2, 3, 9, 98, 99)
+MOST_WAIT = 10 ** 6
+
+
+def some_rule(chance, kind=None):
+    """A rule of this kind, or of any."""
+    kind = kind or chance.choice(("none", "late", "share"))
+    if kind == "late":
+        return ("late", chance.choice((1, 2, 3, 5, 99)), chance.choice((1, 2, 3, 5, 40, 99)))
+    if kind == "share":
+        factors = (0, 1, 7, 40, 300, 999)
+        return ("share", chance.choice((1, 2, 5, 99)), chance.choice((1, 2, 3, 99)), chance.choice(factors),
+                chance.choice(factors))
+    return ("none",)
+
+
+def some_streams(chance, many=None, kind=None):
+    many = many or chance.randint(1, 8)
+    return tuple((chance.randint(1, 9), some_rule(chance, kind), chance.choice(LIMITS)) for _ in range(many))
+
+
+def some_comers(chance, many, most=8):
+    return tuple((chance.randrange(many), chance.randint(1, 9), chance.random() < 0.5)
+                 for _ in range(chance.randint(0, most)))
+
+
+def some_run(chance, many, ticks, most=8):
+    return tuple(some_comers(chance, many, most) for _ in range(ticks))
+
+
+def some_memory(chance, rule):
+    """A memory of the rule, its numbers at bounds now and then."""
+    if rule[0] == "late":
+        span = rule[2]
+        count = chance.choice((0, 1, chance.randint(0, span * span), span * span))
+        age = chance.choice((None, 0, chance.randint(0, span), span, span))
+        left = chance.choice((None, 0, 0, 1, chance.randint(0, span), span)) if age == span else None
+        return (age, left, count)
+    if rule[0] == "share":
+        return (chance.choice((0, 0, chance.randrange(rule[2]), rule[2] - 1)),
+                chance.choice((0, 1, chance.randint(0, 1000), 500, 999, 1000)),
+                chance.choice((0, chance.randint(0, 99), 99)), chance.choice((0, chance.randint(0, 999), 999)))
+    return ()
+
+
+def some_piece(chance, wait):
+    can = chance.random() < 0.5
+    return (chance.randint(1, 9), can, can and chance.random() < 0.3, wait)
+
+
+def some_lane(chance, stream, most_credit=None, many=None):
+    """A lane of the stream that fits, not only one that a line comes to."""
+    weight, rule, limit = stream
+    if many is None:
+        many = min(limit, chance.choice((0, 0, 1, 1, 2, 3, 5, limit)))
+    if many == 0:
+        return (0, (), some_memory(chance, rule))
+    most = chance.choice((0, 3, 9, 120, MOST_WAIT))
+    waits = sorted([chance.choice((chance.randint(0, most), most)) for _ in range(many)], reverse=True)
+    bound = 9 * weight + 8 if most_credit is None else most_credit
+    credit = chance.choice((0, chance.randint(0, bound), bound))
+    return (credit, tuple(some_piece(chance, wait) for wait in waits), some_memory(chance, rule))
+
+
+def some_standing(chance, streams):
+    """A standing of the streams that fits, not only one that a line comes to."""
+    lanes = [some_lane(chance, stream, most_credit=8) for stream in streams]
+    ring = [number for number, lane in enumerate(lanes) if lane[1]]
+    chance.shuffle(ring)
+    if not ring:
+        return (0, False, (), tuple(lanes))
+    begun = chance.random() < 0.5
+    if begun:
+        first = ring[0]
+        lanes[first] = some_lane(chance, streams[first], many=len(lanes[first][1]))
+    return (chance.choice((0, chance.randint(0, 8), 8)), begun, tuple(ring), tuple(lanes))
+
+
+def model_look(rule, memory, wait, alone):
+    """A head is looked at: the memory behind it, and whether it is struck."""
+    if rule[0] != "late":
+        return memory, False
+    _, mark, span = rule
+    age, left, count = memory
+    if wait < mark or alone:
+        return (None, None, count), False
+    if age is None:
+        return (0, None, count), False
+    if age == span and (left is None or left == 0):
+        count = count // 2 + 1 if left is None else min(count + 1, span * span)
+        return (age, max(side for side in range(span + 1) if side * side <= span * span // count), count), True
+    return memory, False
+
+
+def model_pass(rule, memory):
+    if rule[0] == "late":
+        age, left, count = memory
+        return (None if age is None else min(rule[2], age + 1), left and left - 1, count)
+    if rule[0] == "share":
+        return ((memory[0] + rule[2] - 1) % rule[2],) + memory[1:]
+    return memory
+
+
+class Model:
+    """The line once more: lanes that are changed in place, and notes of what struck."""
+
+    def __init__(self, streams, standing=None):
+        self.streams = streams
+        if standing is None:
+            firsts = {"late": (None, None, 0), "share": (0, 0, 0, 0), "none": ()}
+            standing = (0, False, (), tuple((0, (), firsts[stream[1][0]]) for stream in streams))
+        self.budget, self.begun = standing[0], standing[1]
+        self.ring = list(standing[2])
+        self.credits = [lane[0] for lane in standing[3]]
+        self.queues = [[list(piece) for piece in lane[1]] for lane in standing[3]]
+        self.memories = [lane[2] for lane in standing[3]]
+        self.tick = 0
+        self.rows = []
+        self.since = {}
+        self.reasons = {}
+
+    def standing(self):
+        lanes = [(credit, tuple(tuple(piece) for piece in queue), memory)
+                 for credit, queue, memory in zip(self.credits, self.queues, self.memories)]
+        return (self.budget, self.begun, tuple(self.ring), tuple(lanes))
+
+    def step(self, rate, comers):
+        """A whole tick; told are its rows."""
+        self.rows = []
+        for number in range(len(self.streams)):
+            self.renew(number)
+        for number, size, can in comers:
+            self.come(number, size, can)
+        self.serve(rate)
+        for number in range(len(self.streams)):
+            self.memories[number] = model_pass(self.streams[number][1], self.memories[number])
+            for piece in self.queues[number]:
+                piece[3] = min(piece[3] + 1, MOST_WAIT)
+        self.tick += 1
+        return tuple(self.rows)
+
+    def renew(self, number):
+        rule = self.streams[number][1]
+        if rule[0] == "share" and self.memories[number][0] == 0:
+            _, mark, _, up, turn = rule
+            _, share, old, total = self.memories[number]
+            wait = min(99, self.queues[number][0][3]) if self.queues[number] else 0
+            share += up * (wait - mark) + turn * (wait - old)
+            self.memories[number] = (0, sorted((0, share, 1000))[1], wait, total)
+
+    def come(self, number, size, can):
+        _, rule, limit = self.streams[number]
+        queue = self.queues[number]
+        if len(queue) >= limit:
+            return self.rows.append(("full", number, size, 0))
+        struck = False
+        if rule[0] == "share":
+            phase, share, old, total = self.memories[number]
+            struck = total + share > 999
+            if struck:
+                self.reasons[(self.tick, len(self.rows))] = (number, ("share", share, total))
+            self.memories[number] = (phase, share, old, total + share - 1000 * struck)
+        if struck and not can:
+            return self.rows.append(("drop", number, size, 0))
+        queue.append([size, can, struck, 0])
+        if len(queue) == 1:
+            self.ring.append(number)
+        return self.rows.append(("mark" if struck else "come", number, size, 0))
+
+    def serve(self, rate):
+        self.budget = self.budget + rate if self.ring else 0
+        while self.ring:
+            number = self.ring[0]
+            if not self.begun:
+                self.begun = True
+                self.credits[number] += 9 * self.streams[number][0]
+            size = self.queues[number][0][0]
+            if size > self.credits[number]:
+                self.ring.append(self.ring.pop(0))
+                self.begun = False
+            elif size > self.budget:
+                return
+            else:
+                self.out(number)
+        self.budget = 0
+
+    def out(self, number):
+        rule = self.streams[number][1]
+        queue = self.queues[number]
+        size, can, marked, wait = queue[0]
+        memory, struck = model_look(rule, self.memories[number], wait, len(queue) == 1)
+        self.memories[number] = memory
+        if rule[0] == "late" and memory[0] == 0:
+            self.since[number] = self.tick
+        if struck:
+            self.reasons[(self.tick, len(self.rows))] = (number, ("late", self.since.get(number), memory[2]))
+        word = "bell" if marked or (struck and can) else "drop" if struck else "send"
+        self.rows.append((word, number, size, wait))
+        queue.pop(0)
+        if word != "drop":
+            self.credits[number] -= size
+            self.budget -= size
+        if not queue:
+            self.credits[number] = 0
+            self.ring.remove(number)
+            self.begun = False

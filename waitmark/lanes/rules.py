@@ -14,19 +14,15 @@ def is_rule(thing):
 def is_memory(rule, thing):
     """Whether thing is a memory of this rule."""
     _check_rule(rule)
-    if is_late(rule):
-        return fits_late(rule, thing)
-    if is_share(rule):
-        return fits_share(rule, thing)
-    return thing == ()
+    return fits_memory(rule, thing)
 
 
 def first_memory(rule):
     """The rule's memory at first."""
     _check_rule(rule)
-    if is_late(rule):
+    if rule[0] == "late":
         return late_first(rule)
-    if is_share(rule):
+    if rule[0] == "share":
         return share_first(rule)
     return ()
 
@@ -35,34 +31,63 @@ def looked(rule, memory, wait, *, alone=False):
     """The memory behind a look at a head, and whether the head is struck."""
     _check_memory(rule, memory)
     check_wait(wait)
-    if is_late(rule):
-        return look_late(rule, memory, wait, alone)
-    return memory, False
+    return look_at(rule, memory, wait, alone)
 
 
 def come_in(rule, memory):
     """The memory as one has come in, and whether that one is struck."""
     _check_memory(rule, memory)
-    if is_share(rule):
-        return come_share(memory)
-    return memory, False
+    return come_by(rule, memory)
 
 
 def renewed(rule, memory, wait):
     """The memory behind a tick's begin, by the head's wait."""
     _check_memory(rule, memory)
     check_wait(wait)
-    if is_share(rule):
-        return renew_share(rule, memory, wait)
-    return memory
+    return renew_by(rule, memory, wait)
 
 
 def passed(rule, memory):
     """The memory behind a tick that passes."""
     _check_memory(rule, memory)
-    if is_late(rule):
+    return pass_by(rule, memory)
+
+
+def fits_memory(rule, thing):
+    """As is_memory, of what is known to be a rule."""
+    if rule[0] == "late":
+        return fits_late(rule, thing)
+    if rule[0] == "share":
+        return fits_share(rule, thing)
+    return thing == ()
+
+
+def look_at(rule, memory, wait, alone):
+    """As looked, of what is known to fit."""
+    if rule[0] == "late":
+        return look_late(rule, memory, wait, alone)
+    return memory, False
+
+
+def come_by(rule, memory):
+    """As come_in, of what is known to fit."""
+    if rule[0] == "share":
+        return come_share(memory)
+    return memory, False
+
+
+def renew_by(rule, memory, wait):
+    """As renewed, of what is known to fit."""
+    if rule[0] == "share":
+        return renew_share(rule, memory, wait)
+    return memory
+
+
+def pass_by(rule, memory):
+    """As passed, of what is known to fit."""
+    if rule[0] == "late":
         return pass_late(rule, memory)
-    if is_share(rule):
+    if rule[0] == "share":
         return pass_share(rule, memory)
     return memory
 
