@@ -37,6 +37,27 @@ CALLS = {
         "is_standing": "(streams, thing)", "first_standing": "(streams)", "served": "(streams, rate, standing)",
     },
     "waitmark.line.steps": {"stepped": "(streams, rate, standing, comers)"},
+    "waitmark.line.journals": {
+        "journal_of": "(streams, rate, standing, run)", "shows_journal": "(streams, rate, standing, run, thing)",
+        "accounts": "(streams, standing, journal)", "strikes": "(streams, journal)", "waits": "(journal, stream)",
+    },
+    "waitmark.line.reasons": {
+        "reason_of": "(streams, rate, run, tick, place)", "shows_reason": "(streams, rate, run, tick, place, thing)",
+    },
+    "waitmark.line.spans": {
+        "busy": "(streams, rate, standing, run)", "apart": "(streams, rate, standing, run, one, other, span)",
+        "bound": "(streams, one, other)", "most_apart": "(streams, rate, standing, run)",
+    },
+}
+
+CLASSES = {
+    "waitmark.line.line": {
+        "Line": {
+            "__init__": "(self, streams, *, rate=9, standing=None)", "step": "(self, comers=())", "run": "(self, run)",
+            "standing": "(self)", "journal": "(self)", "waiting": "(self)", "back": "(self)", "diary": "(self)",
+            "__eq__": "(self, other)", "__len__": "(self)", "__repr__": "(self)",
+        },
+    },
 }
 
 VALUES = {"waitmark.base.comers": {"MOST_SIZE": 9}, "waitmark.base.plain": {"RATE": 9}}
@@ -52,6 +73,16 @@ class TestInterface(unittest.TestCase):
                 self.assertTrue(inspect.isfunction(function), name)
                 self.assertEqual((function.__module__, function.__name__), (place, name))
                 self.assertEqual(str(inspect.signature(function)), arguments, name)
+
+    def test_each_class_and_its_methods_are_defined_in_its_file(self):
+        for place, classes in CLASSES.items():
+            module = importlib.import_module(place)
+            for name, methods in classes.items():
+                kind = getattr(module, name)
+                self.assertEqual((kind.__module__, kind.__name__), (place, name))
+                for method, arguments in methods.items():
+                    self.assertIn(method, vars(kind), name)
+                    self.assertEqual(str(inspect.signature(vars(kind)[method])), arguments, method)
 
     def test_the_values(self):
         for place, values in VALUES.items():

@@ -33,7 +33,7 @@ BARRED_WORDS = re.compile(r"\b(type|typing|typing_extensions|enum|Enum|IntEnum|S
                           r"|dataclass|overload|contextmanager|_wall|_WallAttr")
 DOUBLES = {"__init__", "__eq__", "__repr__", "__str__", "__len__"}
 NOT_HERE = (ast.Global, ast.AsyncFunctionDef, ast.AsyncFor, ast.AsyncWith, ast.Await, ast.Div, ast.MatMult,
-            ast.TypeIgnore, ast.Set)
+            ast.TypeIgnore, ast.Set, ast.GeneratorExp)
 
 
 def sources():
@@ -246,7 +246,8 @@ class TestStatements(unittest.TestCase):
             for node in ast.walk(tree):
                 if isinstance(node, ast.arguments):
                     for worth in node.defaults + [part for part in node.kw_defaults if part is not None]:
-                        self.assertIsInstance(worth, (ast.Constant, ast.Name), path)
+                        plain = isinstance(worth, ast.Tuple) and worth.elts == []
+                        self.assertTrue(plain or isinstance(worth, (ast.Constant, ast.Name)), path)
 
 
 if __name__ == "__main__":

@@ -1,4 +1,4 @@
-"""Whole numbers and their bounds, for all of the program."""
+"""Whole numbers and their bounds, and what is just the same: for all of the program."""
 
 from waitmark.errors import NoNumber
 
@@ -24,3 +24,12 @@ def check_number(thing, low, high):
 def check_wait(wait):
     """Refuse what is no wait."""
     check_number(wait, 0, MOST_WAIT)
+
+
+def is_same(told, thing):
+    """Whether thing is just what is told, kinds too: a truth is no number, a list no tuple."""
+    if not isinstance(told, tuple):
+        return isinstance(thing, bool) == isinstance(told, bool) and thing == told
+    if not isinstance(thing, tuple) or len(thing) != len(told):
+        return False
+    return all([is_same(part, other) for part, other in zip(told, thing)])

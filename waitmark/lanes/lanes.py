@@ -71,6 +71,11 @@ def turn_credit(stream):
     return MOST_SIZE * stream[0]
 
 
+def lane_units(lane):
+    """The units that wait in a lane."""
+    return sum([piece[0] for piece in lane[1]])
+
+
 def fits_lane(stream, thing):
     """As is_lane, of what is known to be a stream."""
     if not isinstance(thing, tuple) or len(thing) != 3:

@@ -101,12 +101,17 @@ def first_standing(streams):
 
 def served(streams, rate, standing):
     """The standing behind a serving alone, and its rows."""
-    check_streams(streams)
-    check_rate(rate)
-    check_standing(streams, standing)
+    check_line(streams, rate, standing)
     floor = Floor(streams, standing)
     floor.serve(rate)
     return floor.told()
+
+
+def check_line(streams, rate, standing):
+    """Refuse what are no streams, no rate, or no standing of these streams."""
+    check_streams(streams)
+    check_rate(rate)
+    check_standing(streams, standing)
 
 
 def check_standing(streams, standing):

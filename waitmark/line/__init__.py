@@ -1,1 +1,1 @@
-"""The line: its steps."""
+"""The line: its steps, journals of them, the reasons of strikes, and spans of two streams."""
