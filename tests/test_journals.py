@@ -9,7 +9,7 @@ from waitmark.errors import NoNumber, NoRate, NoStanding, NoStreams
 from waitmark.lanes.turns import first_standing, is_standing
 from waitmark.line.journals import accounts, journal_of, shows_journal, strikes, waits
 from waitmark.line.line import Line
-from tests.things import (Case, Model, some_run, some_standing, some_streams, spoilt, things, within)
+from tests.things import Case, Model, some_run, some_standing, some_streams, spoilt, spoilt_deep, things, within
 
 NONE = ("none",)
 LATE = ("late", 1, 2)
@@ -23,14 +23,6 @@ RUN = (((0, 9, True), (1, 4, False), (1, 9, False)), (), ((1, 5, True),))
 def model_journal(streams, rate, standing, run):
     model = Model(streams, standing)
     return tuple(model.step(rate, comers) for comers in run), model
-
-
-def spoilt_deep(thing):
-    yield from spoilt(thing)
-    for at, part in enumerate(thing):
-        if isinstance(part, tuple):
-            for bad in spoilt_deep(part):
-                yield thing[:at] + (bad,) + thing[at + 1:]
 
 
 def some_line(chance, kind=None, ticks=20, most=8):

@@ -5,8 +5,9 @@ import unittest
 
 from waitmark.errors import NoLane, NoNumber, NoStream
 from waitmark.lanes.lanes import empty_lane, head_out, is_lane, is_stream, lane_passed, lane_renewed, put_in
-from waitmark.lanes.rules import (come_in, first_memory, is_memory, is_rule, looked, passed, renewed)
-from tests.things import FORTY, LIMITS, MOST_WAIT, Case, some_lane, some_memory, some_rule, spoilt, things, within
+from waitmark.lanes.rules import come_in, first_memory, is_memory, is_rule, looked, passed, renewed
+from tests.things import (FORTY, LIMITS, MOST_WAIT, Case, some_lane, some_memory, some_rule, spoilt, spoilt_deep,
+                          things, within)
 
 NONE = ("none",)
 LATE = ("late", 5, 3)
@@ -40,15 +41,6 @@ def fits_lane(stream, thing):
     if len(pieces) > stream[2] or not all(fits_piece(piece) for piece in pieces) or (credit and not pieces):
         return False
     return all(ahead[3] >= behind[3] for ahead, behind in zip(pieces, pieces[1:]))
-
-
-def spoilt_deep(thing):
-    """The tuple spoilt at any depth."""
-    yield from spoilt(thing)
-    for at, part in enumerate(thing):
-        if isinstance(part, tuple):
-            for bad in spoilt_deep(part):
-                yield thing[:at] + (bad,) + thing[at + 1:]
 
 
 class TestStreams(Case):

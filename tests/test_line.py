@@ -8,7 +8,7 @@ from waitmark.errors import NoComers, NoDeed, NoRate, NoRun, NoStanding, NoStrea
 from waitmark.lanes.turns import first_standing, is_standing
 from waitmark.line.line import Line
 from waitmark.line.steps import stepped
-from tests.things import (Case, Model, some_comers, some_run, some_standing, some_streams, spoilt, things, within)
+from tests.things import Case, Model, some_comers, some_run, some_standing, some_streams, spoilt, things, within
 
 NONE = ("none",)
 LATE = ("late", 2, 2)

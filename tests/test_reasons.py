@@ -198,6 +198,14 @@ class TestRefusals(Case):
         self.refuses_both(NoNumber, LATES, 9, self.RUN, -3, 0)
         self.refuses_both(NoNumber, LATES, 9, self.RUN, 3, -2)
 
+    def test_places_are_not_counted_from_the_end(self):
+        streams, run = ((1, ("share", 1, 1, 999, 0), 99),), (((0, 9, False),), (), ((0, 9, True),) * 2)
+        reasons, journal = strikes_of(streams, 1, run)
+        self.same([row[0] for row in journal[2]], ["come", "mark"])
+        self.tells(("share", 999, 999), reason_of, streams, 1, run, 2, 1)
+        for tick, place in ((2, -1), (-1, 1), (-1, -1)):
+            self.refuses_both(NoNumber, streams, 1, run, tick, place)
+
     def test_truths_as_places(self):
         streams, run = ((1, ("late", 1, 1), 99),), (CROWD * 2,) + ((),) * 3
         reasons, _ = strikes_of(streams, 9, run)

@@ -179,6 +179,14 @@ class TestMostApart(Case):
         run = (((2, 9, False), (1, 9, False)), ()) + ((),) * 3
         self.tells((0, 1, 2, 0, 0), most_apart, streams, 1, first_standing(streams), run)
 
+    def test_a_later_span_that_is_further_apart_either_way(self):
+        streams = ((1, NONE, 9),) * 2
+        nines, mixed = ((9, False, False, 0),) * 5, ((9, False, False, 0), (8, False, False, 0)) * 2
+        # The first of the ring sends 9; the other one kept 8, and sends 9 and 8 in the two ticks behind.
+        lanes = ((0, nines, ()), (8, mixed, ()))
+        self.tells((17, 0, 1, 1, 2), most_apart, streams, 9, (0, False, (0, 1), lanes), ((),) * 4)
+        self.tells((17, 0, 1, 1, 2), most_apart, streams, 9, (0, False, (1, 0), lanes[::-1]), ((),) * 4)
+
     def test_like_the_model_through_all_spans(self):
         chance = random.Random(139)
         later, none = 0, 0

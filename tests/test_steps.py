@@ -8,7 +8,7 @@ from waitmark.errors import NoComers, NoRate, NoStanding, NoStreams
 from waitmark.lanes.lanes import head_out, lane_passed, lane_renewed, put_in
 from waitmark.lanes.turns import first_standing, is_standing, served
 from waitmark.line.steps import stepped
-from tests.things import (MOST_WAIT, Case, Model, some_comers, some_standing, some_streams, spoilt, things, within)
+from tests.things import MOST_WAIT, Case, Model, some_comers, some_standing, some_streams, spoilt, things, within
 
 NONE = ("none",)
 LATE = ("late", 1, 2)

@@ -6,9 +6,8 @@ import unittest
 
 from waitmark.errors import NoRate, NoStanding, NoStreams
 from waitmark.lanes.lanes import empty_lane, is_lane, is_stream
-from waitmark.lanes.rules import first_memory
 from waitmark.lanes.turns import first_standing, is_standing, served
-from tests.things import (FORTY, MOST_WAIT, Case, Model, some_standing, some_streams, spoilt, things, within)
+from tests.things import FORTY, Case, Model, some_standing, some_streams, spoilt, spoilt_deep, things, within
 
 NONE = ("none",)
 LATE = ("late", 5, 3)
@@ -48,14 +47,6 @@ def fits_standing(streams, thing):
     if not ring:
         return budget == 0 and begun is False
     return all(lanes[number][0] < 9 for number in (ring[1:] if begun else ring))
-
-
-def spoilt_deep(thing):
-    yield from spoilt(thing)
-    for at, part in enumerate(thing):
-        if isinstance(part, tuple):
-            for bad in spoilt_deep(part):
-                yield thing[:at] + (bad,) + thing[at + 1:]
 
 
 class TestStandings(Case):

@@ -55,6 +55,15 @@ def spoilt(thing):
     yield (thing,)
 
 
+def spoilt_deep(thing):
+    """The tuple spoilt at any depth."""
+    yield from spoilt(thing)
+    for at, part in enumerate(thing):
+        if isinstance(part, tuple):
+            for bad in spoilt_deep(part):
+                yield thing[:at] + (bad,) + thing[at + 1:]
+
+
 def is_whole(thing):
     return type(thing) is int
 

@@ -115,7 +115,7 @@ def check_line(streams, rate, standing):
 
 
 def check_standing(streams, standing):
-    """Refuse what is no standing of these streams."""
+    """Refuse what are no streams, or no standing of these streams."""
     if not is_standing(streams, standing):
         raise NoStanding("no standing of these streams")
 

@@ -22,7 +22,6 @@ def shows_journal(streams, rate, standing, run, thing):
 
 def accounts(streams, standing, journal):
     """The account of each stream, by a standing and a journal from it."""
-    check_streams(streams)
     check_standing(streams, standing)
     return tuple([_account(number, lane_units(lane), journal) for number, lane in enumerate(standing[3])])
 
