@@ -48,6 +48,18 @@ CALLS = {
         "busy": "(streams, rate, standing, run)", "apart": "(streams, rate, standing, run, one, other, span)",
         "bound": "(streams, one, other)", "most_apart": "(streams, rate, standing, run)",
     },
+    "waitmark.senders.senders": {
+        "is_world": "(thing)", "is_state": "(world, thing)", "first_state": "(world)", "ticked": "(world, state)",
+        "walked": "(world, many, *, state=None)",
+    },
+    "waitmark.senders.rings": {
+        "ring_of": "(world)", "shows_ring": "(world, thing)", "falls": "(world, mark)",
+        "shows_falls": "(world, mark, thing)", "ring_units": "(world)",
+    },
+    "waitmark.small.runs": {
+        "small_done": "(rule, limit, lane, many)", "small_words": "(rule, limit, run)",
+        "greatest_wait": "(rule, limit, *, most=2)", "shows_greatest": "(rule, limit, thing, *, most=2)",
+    },
 }
 
 CLASSES = {
@@ -60,7 +72,10 @@ CLASSES = {
     },
 }
 
-VALUES = {"waitmark.base.comers": {"MOST_SIZE": 9}, "waitmark.base.plain": {"RATE": 9}}
+VALUES = {
+    "waitmark.base.comers": {"MOST_SIZE": 9}, "waitmark.base.plain": {"RATE": 9},
+    "waitmark.senders.rings": {"MOST_TICKS": 400}, "waitmark.small.runs": {"MOST": 2},
+}
 
 
 class TestInterface(unittest.TestCase):

@@ -4,6 +4,7 @@ import copy
 import unittest
 
 from waitmark import errors
+from waitmark.lanes.lanes import is_lane
 
 FORTY = 10 ** 40 - 1
 
@@ -313,3 +314,215 @@ class Model:
             self.credits[number] = 0
             self.ring.remove(number)
             self.begun = False
+
+
+MOST_SENT = 16
+FRESH_SENDER = (1, 0, 0, ())
+
+
+def some_world(chance, many=None, kind=None, most=None):
+    """A world of one to four streams, its numbers at bounds now and then."""
+    many = many or chance.randint(1, 4)
+    senders = tuple((chance.randint(1, 9), chance.random() < 0.5, chance.choice((1, 2, 3, chance.randint(1, 20), 20)),
+                     most or chance.choice((1, 2, 5, chance.randint(1, MOST_SENT), MOST_SENT))) for _ in range(many))
+    return (some_streams(chance, many, kind), chance.choice((1, 5, 9, 20, chance.randint(1, 99), 99)), senders)
+
+
+def some_echoes(chance, delay, many):
+    """So many echoes, now and then all of them due in one tick."""
+    last = chance.choice((0, delay - 1))
+    lefts = sorted([chance.randint(0, last) for _ in range(many)])
+    words = chance.choice((("ok",), ("hit",), ("ok", "hit"), ("ok", "ok", "ok", "hit")))
+    return tuple((left, chance.choice(words)) for left in lefts)
+
+
+def some_state(chance, world):
+    """A state of the world that fits, not only one that it comes to."""
+    streams, _, senders = world
+    few = tuple((weight, rule, min(limit, sender[3])) for (weight, rule, limit), sender in zip(streams, senders))
+    budget, begun, ring, lanes = some_standing(chance, few)
+    own = []
+    states = []
+    for (credit, pieces, memory), (size, can, delay, most) in zip(lanes, senders):
+        own.append((credit, tuple((size, can, can and piece[2], piece[3]) for piece in pieces), memory))
+        window = chance.choice((1, chance.randint(1, most), most))
+        grown = chance.choice((0, chance.randrange(window), window - 1))
+        shut = chance.choice((0, 0, chance.randint(0, most), most))
+        free = most - len(pieces)
+        states.append((window, grown, shut, some_echoes(chance, delay, chance.choice((0, chance.randint(0, free), free)))))
+    return ((budget, begun, ring, tuple(own)), tuple(states))
+
+
+class ModelWorld:
+    """A world once more: the line's model, and what each sender keeps, changed in place."""
+
+    def __init__(self, world, state=None):
+        self.streams, rate, self.senders = world
+        self.rate = rate
+        standing, states = state or (None, (FRESH_SENDER,) * len(self.senders))
+        self.line = Model(self.streams, standing)
+        self.kept = [{"window": window, "grown": grown, "shut": shut, "echoes": list(echoes)}
+                     for window, grown, shut, echoes in states]
+
+    def state(self):
+        return (self.line.standing(), tuple((own["window"], own["grown"], own["shut"], tuple(own["echoes"]))
+                                            for own in self.kept))
+
+    def out(self, number):
+        return len(self.line.queues[number]) + len(self.kept[number]["echoes"])
+
+    def hear(self, number):
+        """The first of its echoes."""
+        own, most = self.kept[number], self.senders[number][3]
+        _, word = own["echoes"].pop(0)
+        if own["shut"]:
+            own["shut"] -= 1
+        elif word == "ok":
+            own["grown"] += 1
+            if own["grown"] == own["window"]:
+                own["grown"] = 0
+                own["window"] += own["window"] < most
+        else:
+            own["grown"] = 0
+            own["window"] = own["window"] // 2 or 1
+            own["shut"] = self.out(number)
+
+    def tick(self):
+        """A whole tick; told are its comers and its rows."""
+        comers = []
+        for number, (size, can, _, _) in enumerate(self.senders):
+            own = self.kept[number]
+            while own["echoes"] and own["echoes"][0][0] == 0:
+                self.hear(number)
+            for _ in range(self.out(number), own["window"]):
+                comers.append((number, size, can))
+        rows = self.line.step(self.rate, comers)
+        brings = {"send": "ok", "bell": "hit", "full": "hit", "drop": "hit"}
+        for word, number, _, _ in rows:
+            if word in brings:
+                self.kept[number]["echoes"].append((self.senders[number][2], brings[word]))
+        for own in self.kept:
+            own["echoes"] = [(left - 1, word) for left, word in own["echoes"]]
+        return tuple(comers), rows
+
+
+class ModelRing:
+    """What comes again of a world, tick by tick: lead and ring, None where they are too long, and all rows."""
+
+    def __init__(self, world, most=400):
+        model = ModelWorld(world)
+        self.states = [repr(model.state())]
+        self.rows = []
+        self.told = None
+        seen = set(self.states)
+        while self.told is None and len(self.rows) < most:
+            self.rows.append(model.tick()[1])
+            state = repr(model.state())
+            if state in seen:
+                lead = self.states.index(state)
+                self.told = (lead, len(self.states) - lead)
+            seen.add(state)
+            self.states.append(state)
+
+    def waits(self):
+        """The longest wait sent in each tick, -1 of none."""
+        return [max([row[3] for row in rows if row[0] in ("send", "bell")], default=-1) for rows in self.rows]
+
+    def falls(self, mark):
+        lead, ring = self.told
+        late = [wait >= mark for wait in self.waits()]
+        if any(late[lead:]):
+            return ("never", lead + late[lead:].index(True))
+        return ("falls", max([tick + 1 for tick in range(lead) if late[tick]], default=0))
+
+    def units(self, many):
+        lead, _ = self.told
+        return tuple(sum(size for rows in self.rows[lead:] for word, number, size, _ in rows
+                         if number == stream and word in ("send", "bell")) for stream in range(many))
+
+
+def model_small(rule, limit, lane, many):
+    """A tick of a small lane once more: the lane, the words, and the wait of what is sent, None of nothing."""
+    waits, memory = [piece[3] for piece in lane[1]], lane[2]
+    if rule[0] == "share" and memory[0] == 0:
+        _, share, old, total = memory
+        wait = min(99, waits[0]) if waits else 0
+        share += rule[3] * (wait - rule[1]) + rule[4] * (wait - old)
+        memory = (0, sorted((0, share, 1000))[1], wait, total)
+    words = []
+    for _ in range(many):
+        word = "full" if len(waits) == limit else "come"
+        if word == "come" and rule[0] == "share":
+            over, left = divmod(memory[3] + memory[1], 1000)
+            memory = memory[:3] + (left,)
+            word = "drop" if over else "come"
+        if word == "come":
+            waits.append(0)
+        words.append(word)
+    sent = None
+    while waits and sent is None:
+        memory, struck = model_look(rule, memory, waits[0], len(waits) == 1)
+        wait = waits.pop(0)
+        words.append("drop" if struck else "send")
+        if not struck:
+            sent = wait
+    pieces = tuple((1, False, False, min(wait + 1, MOST_WAIT)) for wait in waits)
+    return (0, pieces, model_pass(rule, memory)), tuple(words), sent
+
+
+def lane_of(*waits, memory=()):
+    """The small lane in which pieces wait so long."""
+    return (0, tuple((1, False, False, wait) for wait in waits), memory)
+
+
+def fits_small(rule, limit, thing):
+    """What a small lane is, put down once more for the tests."""
+    if not is_lane((1, rule, limit), thing):
+        return False
+    return thing[0] == 0 and all(piece[:3] == (1, False, False) for piece in thing[1])
+
+
+def small_first(rule):
+    """The small lane ahead of all runs."""
+    return (0, (), {"late": (None, None, 0), "share": (0, 0, 0, 0), "none": ()}[rule[0]])
+
+
+def model_search(first, do, most, stop=None):
+    """All rows in the order in which runs come to them, the least run to each, and the first run that stops it.
+
+    do(row, count) tells the row behind and what the tick shows; stop(shown) whether it stops there. None is told in
+    place of all where more than 1500 rows come ahead.
+    """
+    runs = {first: ()}
+    level = [((), first)]
+    while level:
+        behind = []
+        for run, row in sorted(level):
+            for count in range(most + 1):
+                after, shown = do(row, count)
+                if stop is not None and stop(shown):
+                    return list(runs), runs, run + (count,)
+                if after not in runs:
+                    runs[after] = run + (count,)
+                    behind.append((runs[after], after))
+                    if len(runs) > 1500:
+                        return None
+        level = behind
+    return list(runs), runs, None
+
+
+def some_small_rule(chance, kind=None):
+    """A rule that does something in small lanes."""
+    kind = kind or chance.choice(("none", "late", "share"))
+    if kind == "late":
+        return ("late", chance.randint(1, 4), chance.choice((1, 2, 3, 5, 9)))
+    if kind == "share":
+        factors = (0, 50, 100, 200, 250, 300, 500, 999)
+        return ("share", chance.randint(1, 3), chance.choice((1, 2, 3)), chance.choice(factors), chance.choice(factors))
+    return ("none",)
+
+
+def some_small_lane(chance, rule, limit):
+    """A small lane that fits, not only one that runs come to."""
+    credit, pieces, memory = some_lane(chance, (1, rule, limit))
+    return (0, tuple((1, False, False, piece[3]) for piece in pieces), memory)

@@ -45,9 +45,14 @@ class PlainRow:
         return waits
 
 
+def is_rate(thing):
+    """Whether thing is a rate."""
+    return is_within(thing, 1, MOST_RATE)
+
+
 def check_rate(rate):
     """Refuse what is no rate."""
-    if not is_within(rate, 1, MOST_RATE):
+    if not is_rate(rate):
         raise NoRate(f"not a rate from 1 to {MOST_RATE}")
 
 

@@ -58,12 +58,17 @@ def lane_passed(stream, lane):
     return pass_lane(stream, lane)
 
 
+def are_streams(thing):
+    """Whether thing is a tuple of one to eight streams."""
+    if not isinstance(thing, tuple) or not 1 <= len(thing) <= MOST_STREAMS:
+        return False
+    return all([is_stream(stream) for stream in thing])
+
+
 def check_streams(streams):
     """Refuse what is no tuple of one to eight streams."""
-    if not isinstance(streams, tuple) or not 1 <= len(streams) <= MOST_STREAMS:
+    if not are_streams(streams):
         raise NoStreams(f"not a tuple of 1 to {MOST_STREAMS} streams")
-    if not all([is_stream(stream) for stream in streams]):
-        raise NoStreams("not all of them are streams")
 
 
 def turn_credit(stream):

@@ -13,13 +13,13 @@ def is_rule(thing):
 
 def is_memory(rule, thing):
     """Whether thing is a memory of this rule."""
-    _check_rule(rule)
+    check_rule(rule)
     return fits_memory(rule, thing)
 
 
 def first_memory(rule):
     """The rule's memory at first."""
-    _check_rule(rule)
+    check_rule(rule)
     if rule[0] == "late":
         return late_first(rule)
     if rule[0] == "share":
@@ -51,6 +51,12 @@ def passed(rule, memory):
     """The memory behind a tick that passes."""
     _check_memory(rule, memory)
     return pass_by(rule, memory)
+
+
+def check_rule(rule):
+    """Refuse what is no rule."""
+    if not is_rule(rule):
+        raise NoRule("no rule")
 
 
 def fits_memory(rule, thing):
@@ -90,11 +96,6 @@ def pass_by(rule, memory):
     if rule[0] == "share":
         return pass_share(rule, memory)
     return memory
-
-
-def _check_rule(rule):
-    if not is_rule(rule):
-        raise NoRule("no rule")
 
 
 def _check_memory(rule, memory):
