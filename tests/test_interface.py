@@ -60,6 +60,18 @@ CALLS = {
         "small_done": "(rule, limit, lane, many)", "small_words": "(rule, limit, run)",
         "greatest_wait": "(rule, limit, *, most=2)", "shows_greatest": "(rule, limit, thing, *, most=2)",
     },
+    "waitmark.small.pairs": {
+        "alike": "(one, other, limit, *, most=2)", "longer": "(one, other, limit, over, *, most=2)",
+        "shows_alike": "(one, other, limit, thing, *, most=2)",
+        "shows_longer": "(one, other, limit, over, thing, *, most=2)",
+    },
+    "waitmark.small.letin": {
+        "over": "(load, bucket)", "least_depth": "(load, gain)", "longest": "(streams, stream, rate, bucket)",
+    },
+    "waitmark.desk.texts": {
+        "rule_text": "(rule)", "streams_text": "(streams)", "comers_text": "(comers)", "rows_text": "(rows)",
+        "read_rule": "(text)", "read_streams": "(text)", "read_comers": "(text)",
+    },
 }
 
 CLASSES = {
@@ -68,6 +80,11 @@ CLASSES = {
             "__init__": "(self, streams, *, rate=9, standing=None)", "step": "(self, comers=())", "run": "(self, run)",
             "standing": "(self)", "journal": "(self)", "waiting": "(self)", "back": "(self)", "diary": "(self)",
             "__eq__": "(self, other)", "__len__": "(self)", "__repr__": "(self)",
+        },
+    },
+    "waitmark.desk.desk": {
+        "Desk": {
+            "__init__": "(self)", "say": "(self, row)", "many": "(self, rows)", "log": "(self)", "line": "(self)",
         },
     },
 }
