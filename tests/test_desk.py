@@ -5,8 +5,8 @@ import unittest
 
 from waitmark import errors
 from waitmark.desk.desk import Desk
-from waitmark.desk.texts import comers_text, rows_text, streams_text
-from waitmark.errors import (NoBucket, NoComers, NoDeed, NoLine, NoNumber, NoRate, NoStreams, NoText, NoWorld, TooLong)
+from waitmark.desk.texts import comers_text, read_comers, read_streams, rows_text, streams_text
+from waitmark.errors import NoBucket, NoComers, NoDeed, NoLine, NoNumber, NoRate, NoText, NoWorld, TooLong
 from waitmark.lanes.turns import first_standing
 from waitmark.line.line import Line
 from waitmark.senders.rings import ring_of
@@ -44,6 +44,17 @@ NO_ROWS = (
     "many", "standing", "journal",
 )
 
+# Streams and comers of good form that nothing writes: numbers out of their bounds, or too many.
+NO_STREAMS = (
+    "0 9 none", "10 9 none", f"{FORTY} 9 none", "1 0 none", "1 100 none", f"1 {FORTY} none", "1 9 late 0 5", "1 9 late 5 0",
+    "1 9 late 5 100", f"1 9 late {FORTY} 1", "1 9 share 1 0 1 1", "1 9 share 1 1 1000 1", "1 9 share 5 5 1000 0",
+    f"{FORTY} {FORTY} share {FORTY} 0 {FORTY} 1", " / ".join(["1 9 none"] * 9), "1 9 none / 0 9 none", "10 9 none / 1 9 none",
+)
+NO_COMERS = (
+    "0:0", "0:10", "0:10m", "8:1", "8:10", "0:1 9:9m", f"{FORTY}:1", f"0:{FORTY}m", f"{FORTY}:{FORTY}m", "0:1 0:0",
+    " ".join(["0:1"] * 65),
+)
+
 
 class ModelDesk:
     """The desk once more: a Line, and what has been said; rows come taken apart."""
@@ -55,9 +66,8 @@ class ModelDesk:
         self.log = []
 
     def say(self, text, word, *parts):
-        told = getattr(self, word)(*parts)
-        self.log += [("in", text), ("out", told)]
-        return told
+        self.log += [("in", text), ("out", text)]
+        return getattr(self, word)(*parts)
 
     def new(self, rate, streams):
         self.line, self.streams, self.rate = Line(streams, rate=rate), streams, rate
@@ -84,15 +94,21 @@ def world_text(world):
     return f"{rate} {streams_text(streams)} ; {told}"
 
 
+def both_ends(*rows):
+    """What the log has of these rows."""
+    texts = [row if isinstance(row, str) else "" for row in rows]
+    return tuple((end, text) for text in texts for end in ("in", "out"))
+
+
 class Desks(Case):
 
     def refused(self, desk, kind, row, lines=True):
-        """A row is refused: just this class; the line is as it was, and the log has the row and no answer."""
+        """A row is refused: just this class; the line is as it was, and both ends of the log have the row."""
         line, log = desk.line(), desk.log()
         with self.assertRaises(errors.LineError) as caught:
             desk.say(row)
         self.assertIs(type(caught.exception), kind, row)
-        self.same(desk.log(), log + (("in", row if isinstance(row, str) else ""), ("out", "")))
+        self.same(desk.log(), log + both_ends(row))
         if line is None:
             self.assertIsNone(desk.line())
         else:
@@ -101,7 +117,7 @@ class Desks(Case):
     def says(self, desk, row, due):
         log = desk.log()
         self.same(desk.say(row), due)
-        self.same(desk.log(), log + (("in", row), ("out", due)))
+        self.same(desk.log(), log + (("in", row), ("out", row)))
 
 
 class TestRows(Desks):
@@ -162,7 +178,7 @@ class TestRows(Desks):
         desk = Desk()
         desk.say(LINE)
         desk.say("step 0:3 0:9 0:9")
-        for bad, kind in (("line 0 1 9 none", NoRate), ("line 5 0 9 none", NoStreams), ("line 5", NoText)):
+        for bad, kind in (("line 0 1 9 none", NoRate), ("line 5 0 9 none", NoText), ("line 5", NoText)):
             self.refused(desk, kind, bad)
             self.says(desk, "wait", "18 0")
         self.says(desk, "longest 1 10 1", " ".join(str(part) for part in longest(TWO, 1, 5, (10, 1))))
@@ -269,10 +285,10 @@ class TestRefusals(Desks):
 
     def test_no_line_behind_no_text(self):
         desk = Desk()
-        for row in ("wait", "back", "step -", "step 0:3", "longest 0 1 1", "step 8:10", f"step {FORTY}:{FORTY}m",
-                    "longest 9 0 100", f"longest {FORTY} {FORTY} {FORTY}", "step " + " ".join(["0:1"] * 65)):
+        for row in ("wait", "back", "step -", "step 0:3", "step 7:9m", "step " + " ".join(["7:1"] * 64), "longest 0 1 1",
+                    "longest 9 0 100", f"longest {FORTY} {FORTY} {FORTY}"):
             self.refused(desk, NoLine, row)
-        for row in ("wait ", "back ", "step", "step 8:10 ", "longest 9 0", "longest 9 0 1 1"):
+        for row in ("wait ", "back ", "step", "step 7:9 ", "longest 9 0", "longest 9 0 1 1"):
             self.refused(desk, NoText, row)
         desk.say("ring " + WORLD)
         self.refused(desk, NoLine, "wait")
@@ -281,42 +297,65 @@ class TestRefusals(Desks):
 
     def test_as_the_things_themselves_refuse(self):
         _, desk = self.desks()
-        for row in ("step 2:1", "step 0:0", "step 0:10", "step 7:9", f"step {FORTY}:1", f"step 0:{FORTY}m",
-                    "step " + " ".join(["0:1"] * 65), "step 0:1 2:1"):
+        for row in ("step 2:1", "step 7:9", "step 7:9m", "step 0:1 2:1", "step " + " ".join(["2:1"] * 64)):
             self.refused(desk, NoComers, row)
         for row in ("longest 2 1 1", f"longest {FORTY} 1 1", "longest 2 0 1", "longest 8 0 100"):
             self.refused(desk, NoNumber, row)
         for row in ("longest 0 0 1", "longest 0 1000 1", "longest 0 1 100", f"longest 1 {FORTY} 1", f"longest 1 1 {FORTY}"):
             self.refused(desk, NoBucket, row)
 
-    def test_no_rate_ahead_of_no_streams(self):
+    def test_streams_that_nothing_writes(self):
+        for desk in self.desks():
+            for streams in NO_STREAMS:
+                with self.assertRaises(NoText):
+                    read_streams(streams)
+                for rate in ("5", "0", FORTY):
+                    self.refused(desk, NoText, f"line {rate} {streams}")
+                    for senders in ("1 5 8", "0 5 8", f"1 {FORTY} 8", " / ".join(["1 5 8"] * len(streams.split(" / ")))):
+                        self.refused(desk, NoText, f"ring {rate} {streams} ; {senders}")
+
+    def test_comers_that_nothing_writes(self):
+        for desk in self.desks():
+            for comers in NO_COMERS:
+                with self.assertRaises(NoText):
+                    read_comers(comers)
+                self.refused(desk, NoText, "step " + comers)
+
+    def test_no_rate(self):
         for desk in self.desks():
             for rate in ("0", "100", "999", FORTY):
-                for streams in ("1 9 none", "0 9 none", "1 0 none", "1 9 late 0 5", " / ".join(["1 9 none"] * 9),
-                                f"{FORTY} {FORTY} share {FORTY} 0 {FORTY} 1"):
+                for streams in ("1 9 none", "1 9 none / 2 40 late 5 40", " / ".join(["1 9 none"] * 8)):
                     self.refused(desk, NoRate, f"line {rate} {streams}")
-            for streams in ("0 9 none", "10 9 none", "1 0 none", "1 100 none", "1 9 late 0 5", "1 9 late 5 100",
-                            "1 9 share 1 0 1 1", "1 9 share 1 1 1000 1", " / ".join(["1 9 none"] * 9),
-                            f"{FORTY} 9 none", f"1 {FORTY} none", f"1 9 late {FORTY} 1", "1 9 none / 0 9 none"):
-                self.refused(desk, NoStreams, f"line 5 {streams}")
             for row in (f"line {FORTY}9 0 9 none", "line 0 1 9 non", "line 0 01 9 none", "line 0"):
+                self.refused(desk, NoText, row)
+
+    def test_no_rate_ahead_of_no_world(self):
+        for desk in self.desks():
+            for rate in ("0", "100", "999", FORTY):
+                for behind in ("1 9 none ; 1 5 8", "1 9 none ; 0 5 8", f"1 9 none ; 1 {FORTY} 8", "1 9 none / 1 9 none ; 1 5 8",
+                               " / ".join(["1 9 none"] * 8) + " ; " + " / ".join(["1 5 8"] * 8)):
+                    self.refused(desk, NoRate, f"ring {rate} {behind}")
+            for row in ("ring 0 1 9 none ; 1 5", "ring 0 1 9 none", "ring 0 1 9 none ; 1 5 08", f"ring 0 1 9 none ; 1 5 {FORTY}9"):
                 self.refused(desk, NoText, row)
 
     def test_no_world(self):
         for desk in self.desks():
-            for world in ("0 1 9 none ; 1 5 8", "100 1 9 none ; 1 5 8", "9 0 9 none ; 1 5 8", "9 1 0 none ; 1 5 8",
-                          "9 1 9 none ; 0 5 8", "9 1 9 none ; 10 5 8", "9 1 9 none ; 1 0 8", "9 1 9 none ; 1 21 8",
+            for world in ("9 1 9 none ; 0 5 8", "9 1 9 none ; 10 5 8", "9 1 9 none ; 1 0 8", "9 1 9 none ; 1 21 8",
                           "9 1 9 none ; 1 5 0", "9 1 9 none ; 1 5 17m", "9 1 9 none / 1 9 none ; 1 5 8",
                           "9 1 9 none ; 1 5 8 / 1 5 8", " / ".join(["9 1 9 none"] + ["1 9 none"] * 4) + " ; "
-                          + " / ".join(["1 5 8"] * 5), f"{FORTY} 1 9 none ; 1 5 8", f"9 1 9 none ; 1 {FORTY} 8m"):
+                          + " / ".join(["1 5 8"] * 5), f"9 1 9 none ; 1 {FORTY} 8m", f"9 1 9 none ; {FORTY} 5 8",
+                          f"9 1 9 none ; 1 5 {FORTY}", "9 1 9 none ; " + " / ".join(["1 5 8"] * 9)):
                 self.refused(desk, NoWorld, "ring " + world)
             self.refused(desk, TooLong, LONG)
+        # Where no row tells it, the rate is a part of the world, as any other.
+        with self.assertRaises(NoWorld):
+            ring_of(((PLAIN,), 0, ((1, False, 5, 8),)))
 
     def test_a_refused_row_changes_nothing(self):
         _, desk = self.desks()
         for row in NO_ROWS[::7] + ("step 2:1", "line 0 1 9 none", "longest 2 1 1", LONG, "ring 0 1 9 none ; 1 5 8"):
             self.refused(desk, {"step 2:1": NoComers, "line 0 1 9 none": NoRate, "longest 2 1 1": NoNumber, LONG: TooLong,
-                                "ring 0 1 9 none ; 1 5 8": NoWorld}.get(row, NoText), row)
+                                "ring 0 1 9 none ; 1 5 8": NoRate}.get(row, NoText), row)
         self.says(desk, "wait", "18 0")
         self.says(desk, "back", "ok")
         self.refused(desk, NoDeed, "back")
@@ -342,9 +381,7 @@ class TestMany(Desks):
             with self.assertRaises(errors.LineError) as caught:
                 desk.many((LINE, "step 0:9 0:9", bad, "step 0:9", "wait"))
             self.assertIs(type(caught.exception), kind)
-            due = (("in", LINE), ("out", "ok"), ("in", "step 0:9 0:9"), ("out", "come 0 9 0, come 0 9 0"),
-                   ("in", bad if isinstance(bad, str) else ""), ("out", ""))
-            self.same(desk.log(), due)
+            self.same(desk.log(), both_ends(LINE, "step 0:9 0:9", bad))
             self.says(desk, "wait", "18 0")
 
     def test_of_no_tuple(self):
@@ -356,7 +393,7 @@ class TestMany(Desks):
             with self.assertRaises(NoText):
                 desk.many(thing)
             # Nothing was said.
-            self.same(desk.log(), (("in", LINE), ("out", "ok")))
+            self.same(desk.log(), both_ends(LINE))
 
     def test_tuples_of_no_texts(self):
         for thing in things():
@@ -364,7 +401,7 @@ class TestMany(Desks):
             if isinstance(thing, tuple) and thing:
                 with self.assertRaises(NoText):
                     desk.many(thing)
-                self.same(desk.log(), (("in", thing[0] if isinstance(thing[0], str) else ""), ("out", "")))
+                self.same(desk.log(), both_ends(thing[0]))
 
 
 class TestLog(Desks):
@@ -372,15 +409,31 @@ class TestLog(Desks):
     def test_all_of_it_refused_too(self):
         desk = Desk()
         due = []
-        for row, told in (("wait", ""), (LINE, "ok"), ("step", ""), ("step 0:3", "come 0 3 0, send 0 3 0"), ("", ""),
-                          ("back", "ok"), ("back", ""), ("line 0 1 9 none", ""), ("wait", "0 0")):
+        for row, good in (("wait", False), (LINE, True), ("step", False), ("step 0:3", True), ("", False), ("back", True),
+                          ("back", False), ("line 0 1 9 none", False), ("line 5 0 9 none", False), (None, False),
+                          (("wait",), False), ("step 7:1", False), ("wait", True), (LINE.upper(), False), ("x\n", False)):
             try:
                 desk.say(row)
+                self.assertTrue(good, row)
             except errors.LineError:
-                self.same(told, "")
-            due += [("in", row), ("out", told)]
+                self.assertFalse(good, row)
+            text = row if isinstance(row, str) else ""
+            due += [("in", text), ("out", text)]
             self.same(desk.log(), tuple(due))
-        self.same(desk.log(), tuple(due))
+
+    def test_what_the_log_has_is_the_row_and_no_answer(self):
+        desk = Desk()
+        desk.say(LINE)
+        desk.say("step 0:3")
+        self.same(desk.log(), (("in", LINE), ("out", LINE), ("in", "step 0:3"), ("out", "step 0:3")))
+        desk = Desk()
+        with self.assertRaises(NoLine):
+            desk.say("wait")
+        self.same(desk.log(), (("in", "wait"), ("out", "wait")))
+        desk = Desk()
+        with self.assertRaises(NoText):
+            desk.say(None)
+        self.same(desk.log(), (("in", ""), ("out", "")))
 
     def test_what_it_told_stays_as_it_was(self):
         desk = Desk()

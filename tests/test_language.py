@@ -156,7 +156,8 @@ class TestNames(unittest.TestCase):
                 self.assertNotIn(name, BARRED_EVERYWHERE | BARRED_NAMES, where)
                 self.assertTrue(name == "_" or name in DOUBLES or re.match(r"^_?[A-Za-z][A-Za-z0-9_]*$", name), where)
                 if id(node) not in methods:
-                    self.assertFalse(hasattr(builtins, name), where)
+                    # A run of README.md's examples leaves a "_" among the builtins.
+                    self.assertTrue(name == "_" or not hasattr(builtins, name), where)
                     if not isinstance(node, ast.ClassDef):
                         self.assertNotIn(name, taken, where)
 

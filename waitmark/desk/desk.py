@@ -1,7 +1,7 @@
 """A desk: a line is led by rows that are said to it, and each is answered by a text."""
 
 from waitmark.base.plain import check_rate
-from waitmark.desk.texts import form_comers, form_marked, form_number, form_streams, numbers_text, rows_text
+from waitmark.desk.texts import form_marked, form_number, numbers_text, read_comers, read_streams, rows_text
 from waitmark.errors import NoLine, NoText
 from waitmark.line.line import Line
 from waitmark.senders.rings import ring_of
@@ -12,7 +12,7 @@ NO_BOUND = "none"
 
 
 class Desk:
-    """A line, once there is one, and a log of what was said and answered."""
+    """A line, once there is one, and a log of the rows that were said."""
 
     def __init__(self):
         self._streams = ()
@@ -22,12 +22,10 @@ class Desk:
 
     def say(self, row):
         """Say a row; told is its answer."""
-        # What is refused has no answer: "" stands in its place, till there is one.
-        self._log.append(("in", row if isinstance(row, str) else ""))
-        self._log.append(("out", ""))
-        answer = self._answer(row)
-        self._log[-1] = ("out", answer)
-        return answer
+        # Both ends are logged ahead of the answer, as a refused row has both too.
+        text = row if isinstance(row, str) else ""
+        self._log.extend([("in", text), ("out", text)])
+        return self._answer(row)
 
     def many(self, rows):
         """Say rows one behind another, up to the first that is refused; told are their answers."""
@@ -36,7 +34,7 @@ class Desk:
         return tuple([self.say(row) for row in rows])
 
     def log(self):
-        """("in", row) and ("out", answer) of each row that was said."""
+        """("in", row) and ("out", row) of each row that was said, "" for what is no text."""
         return tuple(self._log)
 
     def line(self):
@@ -57,7 +55,7 @@ class Desk:
         if word == "line":
             return self._begin(behind)
         if word == "step":
-            comers = form_comers(behind)
+            comers = read_comers(behind)
             return rows_text(self._here().step(comers))
         if word == "longest":
             return self._longest(behind)
@@ -72,9 +70,7 @@ class Desk:
 
     def _begin(self, text):
         """A new line is there; one that is refused leaves the elder one."""
-        rate, streams = _form_line(text)
-        # The row tells the rate first, and so it is refused first, though a Line takes the streams first.
-        check_rate(rate)
+        rate, streams = _read_line(text)
         self._line = Line(streams, rate=rate)
         self._streams = streams
         self._rate = rate
@@ -94,18 +90,21 @@ def _ring(text):
     parts = text.split(" ; ")
     if len(parts) != 2:
         raise NoText("not a line and its senders")
-    rate, streams = _form_line(parts[0])
+    rate, streams = _read_line(parts[0])
     senders = tuple([_form_sender(part) for part in parts[1].split(" / ")])
+    # A rate that is none is refused as such, ahead of the world that it makes none.
+    check_rate(rate)
     return numbers_text(ring_of((streams, rate, senders)))
 
 
-def _form_line(text):
-    """What has the form of a rate and streams."""
+def _read_line(text):
+    """A number, whether it is a rate or not, and streams."""
     rate, _, streams = text.partition(" ")
-    return form_number(rate), form_streams(streams)
+    return form_number(rate), read_streams(streams)
 
 
 def _form_sender(text):
+    """What has the form of a sender, its numbers however great."""
     parts = text.split(" ")
     if len(parts) != 3:
         raise NoText("not written as a sender is")

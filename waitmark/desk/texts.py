@@ -43,7 +43,7 @@ def rows_text(rows):
 def read_rule(text):
     """The rule that is so written."""
     _check_text(text)
-    rule = form_rule(text)
+    rule = _form_rule(text)
     if not is_rule(rule):
         raise NoText("no rule has such numbers")
     return rule
@@ -52,7 +52,7 @@ def read_rule(text):
 def read_streams(text):
     """The streams that are so written."""
     _check_text(text)
-    streams = form_streams(text)
+    streams = tuple([_form_stream(part) for part in text.split(" / ")])
     if not are_streams(streams):
         raise NoText("no streams are so many, or have such numbers")
     return streams
@@ -61,7 +61,7 @@ def read_streams(text):
 def read_comers(text):
     """The comers that are so written."""
     _check_text(text)
-    comers = form_comers(text)
+    comers = () if text == NOTHING else tuple([_form_comer(part) for part in text.split(" ")])
     if not are_comers(MOST_STREAMS, comers):
         raise NoText("no comers are so many, or have such numbers")
     return comers
@@ -86,7 +86,7 @@ def form_marked(text):
     return form_number(text.removesuffix(MAY_BE_MARKED)), text.endswith(MAY_BE_MARKED)
 
 
-def form_rule(text):
+def _form_rule(text):
     """What has the form of a rule, its numbers however great."""
     word, *numbers = text.split(" ")
     if word not in NUMBERS or len(numbers) != NUMBERS[word]:
@@ -94,22 +94,10 @@ def form_rule(text):
     return (word, *[form_number(number) for number in numbers])
 
 
-def form_streams(text):
-    """What has the form of streams, their numbers however great, and however many they are."""
-    return tuple([_form_stream(part) for part in text.split(" / ")])
-
-
-def form_comers(text):
-    """What has the form of comers, their numbers however great, and however many they are."""
-    if text == NOTHING:
-        return ()
-    return tuple([_form_comer(part) for part in text.split(" ")])
-
-
 def _form_stream(text):
     weight, _, behind = text.partition(" ")
     limit, _, rule = behind.partition(" ")
-    return (form_number(weight), form_rule(rule), form_number(limit))
+    return (form_number(weight), _form_rule(rule), form_number(limit))
 
 
 def _form_comer(text):
